@@ -8,6 +8,7 @@ import (
 
 	"spinet/api"
 	"spinet/fix"
+	"spinet/reader"
 	"spinet/writer"
 )
 
@@ -493,67 +494,13 @@ func TestByDefinition(t *testing.T) {
 	}
 }
 
-// eye reads a packet by the words of chapter 7.
-type eye struct {
-	packet     []byte
-	rng, value int64
-	at, bits   int
-}
-
-func newEye(packet []byte) *eye {
-	e := &eye{packet: packet, rng: 1 << 24}
-	for range 3 {
-		e.next()
-	}
-	return e
-}
-
-// next takes a byte; those behind the end are noughts.
-func (e *eye) next() {
-	e.value *= 256
-	if e.at < len(e.packet) {
-		e.value += int64(e.packet[e.at])
-	}
-	e.at++
-}
-
-func (e *eye) look(total int) int {
-	return int(min(e.value/(e.rng/int64(total)), int64(total)-1))
-}
-
-func (e *eye) take(from, to, total int) {
-	r := e.rng / int64(total)
-	e.value -= int64(from) * r
-	if to == total {
-		e.rng -= int64(from) * r
-	} else {
-		e.rng = int64(to-from) * r
-	}
-	e.value = min(max(e.value, 0), e.rng-1)
-	for e.rng <= 1<<16 {
-		e.rng *= 256
-		e.next()
-	}
-}
-
-func (e *eye) raw(n int) uint32 {
-	x := uint32(0)
-	for i := range n {
-		x |= uint32(e.packet[len(e.packet)-1-e.bits/8]>>(e.bits%8)&1) << i
-		e.bits++
-	}
-	return x
-}
-
-func (e *eye) left() int { return 8*len(e.packet) - 8*e.at - e.bits }
-
 // check reads what a call put, and tells whether it was that.
-func (e *eye) check(c call) bool {
+func check(r *reader.Reader, c call) bool {
 	if c.total == 0 {
-		return e.raw(c.n) == c.x
+		return r.Raw(c.n) == c.x
 	}
-	s := e.look(c.total)
-	e.take(c.from, c.to, c.total)
+	s := r.Get(c.total)
+	r.Take(c.from, c.to, c.total)
 	return c.from <= s && s < c.to
 }
 
@@ -581,14 +528,14 @@ func TestReadInOrder(t *testing.T) {
 		if e != api.OK {
 			t.Fatal(e)
 		}
-		reading := newEye(packet)
+		reading := reader.New(packet)
 		for i, put := range calls {
-			if !reading.check(put) || reading.left() != lefts[i] {
-				t.Fatalf("call %d of %d, %+v: left %d, not %d", i, len(calls), put, reading.left(), lefts[i])
+			if !check(reading, put) || reading.Left() != lefts[i] {
+				t.Fatalf("call %d of %d, %+v: left %d, not %d", i, len(calls), put, reading.Left(), lefts[i])
 			}
 		}
-		if uint32(reading.rng) != w.Rng() {
-			t.Fatal(reading.rng, w.Rng())
+		if reading.Rng() != w.Rng() {
+			t.Fatal(reading.Rng(), w.Rng())
 		}
 	}
 }
